@@ -1,0 +1,67 @@
+// Package herald: messages of machines, taken in, sorted out, and kept till somebody has them: see DOC.md.
+package herald
+
+// Errno is what a call answers: OK or the reason for a refusal.
+type Errno int
+
+const (
+	OK        Errno = 0
+	ErrLong   Errno = 1  // a text above its bound
+	ErrSource Errno = 2  // no facility, or no severity
+	ErrTime   Errno = 3  // no time
+	ErrHost   Errno = 4  // no host
+	ErrApp    Errno = 5  // no app
+	ErrProc   Errno = 6  // no proc
+	ErrId     Errno = 7  // no id
+	ErrData   Errno = 8  // no data
+	ErrText   Errno = 9  // no text
+	ErrArg    Errno = 10 // a number that may not be, or nothing where something must be
+	ErrRule   Errno = 11 // no rule
+	ErrMany   Errno = 12 // too many messages
+)
+
+// Message is what a machine says; a text that is empty stands for one that is not told.
+type Message struct {
+	Facility, Severity        int
+	Time, Host, App, Proc, Id string
+	Data, Text                string
+}
+
+// Frames finds frames in what comes in.
+type Frames struct{}
+
+// NewFrames makes one that has seen no byte (P5).
+func NewFrames(bound int) (*Frames, Errno) { return nil, OK }
+
+// Feed tells the frames that end in some bytes (P5).
+func (f *Frames) Feed(bytes string) ([]string, int) { return nil, 0 }
+
+// Rules decide what is kept.
+type Rules struct{}
+
+// NewRules reads rules (P6).
+func NewRules(text string) (*Rules, Errno, int) { return nil, OK, 0 }
+
+// Keeps decides (P6).
+func (r *Rules) Keeps(facility int, severity int) (bool, Errno) { return false, OK }
+
+// Log keeps messages.
+type Log struct{}
+
+// Open reads a log (P7).
+func Open(log string, room int) (*Log, Errno) { return nil, OK }
+
+// Put puts a message behind all others (P7).
+func (l *Log) Put(m Message) (int, Errno) { return 0, OK }
+
+// Ack says that somebody has messages (P7).
+func (l *Log) Ack(n int) Errno { return OK }
+
+// Waiting tells the messages that nobody has yet (P7).
+func (l *Log) Waiting() []string { return nil }
+
+// Bytes tells the log (P7).
+func (l *Log) Bytes() string { return "" }
+
+// Relay takes bytes in, and keeps what is to be kept (P8).
+func Relay(f *Frames, r *Rules, l *Log, bytes string, year int) (string, Errno) { return "", OK }
