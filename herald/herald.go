@@ -27,24 +27,6 @@ type Message struct {
 	Data, Text                string
 }
 
-// Frames finds frames in what comes in.
-type Frames struct{}
-
-// NewFrames makes one that has seen no byte (P5).
-func NewFrames(bound int) (*Frames, Errno) { return nil, OK }
-
-// Feed tells the frames that end in some bytes (P5).
-func (f *Frames) Feed(bytes string) ([]string, int) { return nil, 0 }
-
-// Rules decide what is kept.
-type Rules struct{}
-
-// NewRules reads rules (P6).
-func NewRules(text string) (*Rules, Errno, int) { return nil, OK, 0 }
-
-// Keeps decides (P6).
-func (r *Rules) Keeps(facility int, severity int) (bool, Errno) { return false, OK }
-
 // Log keeps messages.
 type Log struct{}
 

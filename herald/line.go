@@ -29,7 +29,7 @@ func Line(m Message) (string, Errno) {
 
 // fault tells the first part that may not be; how long the line is, it leaves aside.
 func fault(m Message) Errno {
-	if m.Facility < 0 || m.Facility >= facilities || m.Severity < 0 || m.Severity >= severities {
+	if !isSource(m.Facility, m.Severity) {
 		return ErrSource
 	}
 	if m.Time != "" && !isTime(m.Time) {

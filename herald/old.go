@@ -55,9 +55,9 @@ func stampAhead(text string, year int) stamp {
 
 // oldTime brings "Mmm dd hh:mm:ss" of a year into the new form, and leaves it to that form's check whether there is such a time.
 func oldTime(text string, year int) (string, bool) {
-	month, named := monthNumbers[text[:3]]
+	month := monthNumber(text[:3])
 	day, clock := text[4:6], text[7:]
-	if !named || text[3] != ' ' || text[6] != ' ' || day[0] == '0' {
+	if month == 0 || text[3] != ' ' || text[6] != ' ' || day[0] == '0' {
 		return "", false
 	}
 	if day[0] == ' ' {

@@ -31,6 +31,10 @@ func Read(line string, year int) (Message, Errno, int) {
 	return readOld(m, line[behind:], year), OK, 0
 }
 
+func isSource(facility, severity int) bool {
+	return 0 <= facility && facility < facilities && 0 <= severity && severity < severities
+}
+
 // readSource tells the number between < and >, and where that ends; 0 as the end, if the line has none.
 func readSource(line string) (source, behind int) {
 	if !strings.HasPrefix(line, "<") {

@@ -9,8 +9,8 @@ const (
 	severities = 8
 )
 
-// facilityNames holds every facility by its number; init counts out the local ones.
-var facilityNames = [facilities]string{
+// ownNames is of the facilities that are not local, by their number.
+var ownNames = [firstLocal]string{
 	"kern", "user", "mail", "daemon", "auth", "syslog", "lpr", "news",
 	"uucp", "cron", "authpriv", "ftp", "ntp", "audit", "alert", "clock",
 }
@@ -22,16 +22,17 @@ var monthNames = [12]string{"Jan", "Feb", "Mar", "Apr", "May", "Jun", "Jul", "Au
 // monthDays is of a year that is no leap year.
 var monthDays = [12]int{31, 28, 31, 30, 31, 30, 31, 31, 30, 31, 30, 31}
 
-// Facilities and severities have a table each, since "alert" is a name of both.
+// What can be counted out, init fills in. Facilities and severities have a table of numbers each, since "alert" is a name of both.
 var (
+	facilityNames   = [facilities]string{}
 	facilityNumbers = map[string]int{}
 	severityNumbers = map[string]int{}
 	monthNumbers    = map[string]int{}
 )
 
 func init() {
-	for i := range locals {
-		facilityNames[firstLocal+i] = "local" + strconv.Itoa(i)
+	for number := range facilities {
+		facilityNames[number] = facilityName(number)
 	}
 	for number, name := range facilityNames {
 		facilityNumbers[name] = number
@@ -42,4 +43,43 @@ func init() {
 	for i, name := range monthNames {
 		monthNumbers[name] = i + 1
 	}
+}
+
+// The functions below work their answers out from the names that are written out. The tables that init fills stand beside them, and are asked last: they know no other names.
+
+func facilityName(number int) string {
+	if number < firstLocal {
+		return ownNames[number]
+	}
+	return "local" + strconv.Itoa(number-firstLocal)
+}
+
+func facilityNumber(name string) (int, bool) {
+	for number := range facilities {
+		if facilityName(number) == name {
+			return number, true
+		}
+	}
+	number, named := facilityNumbers[name]
+	return number, named && facilityNames[number] == name
+}
+
+func severityNumber(name string) (int, bool) {
+	for number, severity := range severityNames {
+		if severity == name {
+			return number, true
+		}
+	}
+	number, named := severityNumbers[name]
+	return number, named
+}
+
+// monthNumber tells 0 for a name that is none.
+func monthNumber(name string) int {
+	for i, month := range monthNames {
+		if month == name {
+			return i + 1
+		}
+	}
+	return monthNumbers[name]
 }
