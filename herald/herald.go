@@ -27,23 +27,5 @@ type Message struct {
 	Data, Text                string
 }
 
-// Log keeps messages.
-type Log struct{}
-
-// Open reads a log (P7).
-func Open(log string, room int) (*Log, Errno) { return nil, OK }
-
-// Put puts a message behind all others (P7).
-func (l *Log) Put(m Message) (int, Errno) { return 0, OK }
-
-// Ack says that somebody has messages (P7).
-func (l *Log) Ack(n int) Errno { return OK }
-
-// Waiting tells the messages that nobody has yet (P7).
-func (l *Log) Waiting() []string { return nil }
-
-// Bytes tells the log (P7).
-func (l *Log) Bytes() string { return "" }
-
 // Relay takes bytes in, and keeps what is to be kept (P8).
 func Relay(f *Frames, r *Rules, l *Log, bytes string, year int) (string, Errno) { return "", OK }

@@ -45,7 +45,7 @@ func init() {
 	}
 }
 
-// The functions below work their answers out from the names that are written out. The tables that init fills stand beside them, and are asked last: they know no other names.
+// The functions below work their answers out from the names that are written out: Read and NewRules ask them alone. The tables that init fills stand beside them, for those who ask by names.go.
 
 func facilityName(number int) string {
 	if number < firstLocal {
@@ -60,8 +60,7 @@ func facilityNumber(name string) (int, bool) {
 			return number, true
 		}
 	}
-	number, named := facilityNumbers[name]
-	return number, named && facilityNames[number] == name
+	return 0, false
 }
 
 func severityNumber(name string) (int, bool) {
@@ -70,8 +69,7 @@ func severityNumber(name string) (int, bool) {
 			return number, true
 		}
 	}
-	number, named := severityNumbers[name]
-	return number, named
+	return 0, false
 }
 
 // monthNumber tells 0 for a name that is none.
@@ -81,5 +79,5 @@ func monthNumber(name string) int {
 			return i + 1
 		}
 	}
-	return monthNumbers[name]
+	return 0
 }

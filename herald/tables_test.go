@@ -66,13 +66,37 @@ func checkNumbers(t *testing.T) {
 	}
 }
 
-// The functions must tell the same, whether init has filled the tables or not.
+func withTables(names [facilities]string, numbers map[string]int, ask func()) {
+	oldNames, oldFacilities, oldSeverities, oldMonths := facilityNames, facilityNumbers, severityNumbers, monthNumbers
+	defer func() {
+		facilityNames, facilityNumbers, severityNumbers, monthNumbers = oldNames, oldFacilities, oldSeverities, oldMonths
+	}()
+	facilityNames, facilityNumbers, severityNumbers, monthNumbers = names, numbers, numbers, numbers
+	ask()
+}
+
+// What the functions tell hangs on no table that init fills: not on empty ones, nor on ones that know other names.
 func TestNumbersWithoutTables(t *testing.T) {
 	checkNumbers(t)
-	names, fromNumbers, graveNumbers, months := facilityNames, facilityNumbers, severityNumbers, monthNumbers
-	defer func() {
-		facilityNames, facilityNumbers, severityNumbers, monthNumbers = names, fromNumbers, graveNumbers, months
-	}()
-	facilityNames, facilityNumbers, severityNumbers, monthNumbers = [facilities]string{}, nil, nil, nil
-	checkNumbers(t)
+	withTables([facilities]string{}, nil, func() { checkNumbers(t) })
+	wrong := map[string]int{"x": 3, "local8": 4, "Ja": 5, "kern": 6, "emerg": 6, "Jan": 6}
+	withTables([facilities]string{3: "x", 4: "local8", 5: "Ja"}, wrong, func() { checkNumbers(t) })
+}
+
+// Nor does what the document's calls answer.
+func TestCallsWithoutTables(t *testing.T) {
+	wrong := map[string]int{"Xyz": 3, "local8": 4, "Feb": 5, "mail": 6, "info": 6}
+	for _, numbers := range []map[string]int{nil, wrong} {
+		withTables([facilities]string{4: "local8"}, numbers, func() {
+			if m, e, _ := Read("<13>Feb  5 17:32:18 h x", 2024); m.Time != "2024-02-05T17:32:18Z" || e != OK {
+				t.Errorf("Read tells the time %q, %d", m.Time, e)
+			}
+			if m, e, _ := Read("<13>Xyz  5 17:32:18 h x", 2024); m.Time != "" || e != OK {
+				t.Errorf("Read tells the time %q, %d", m.Time, e)
+			}
+			mustKeep(t, mustRules(t, "mail.=info drop\n"), func(f, s int) bool { return f != 2 || s != 6 })
+			mustNotBeRules(t, "local8.* drop\n", ErrRule, 0)
+			mustNotBeRules(t, "*.local8 drop\n", ErrRule, 0)
+		})
+	}
 }
