@@ -26,6 +26,3 @@ type Message struct {
 	Time, Host, App, Proc, Id string
 	Data, Text                string
 }
-
-// Relay takes bytes in, and keeps what is to be kept (P8).
-func Relay(f *Frames, r *Rules, l *Log, bytes string, year int) (string, Errno) { return "", OK }
